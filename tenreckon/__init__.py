@@ -1,0 +1,1 @@
+"""Tenreckon: decimal numbers, reckoned in contexts."""
