@@ -1,4 +1,4 @@
-"""The rules of the package's form that can be seen in its files, by their numbers (L1 to L28)."""
+"""Some of the rules of the package's form, by their numbers (L1 to L28); not all of them."""
 
 import ast
 import builtins
