@@ -1,6 +1,6 @@
 """Numbers: plain ones, ends and nothing-numbers."""
 
-from tenreckon.errors import BadNumber
+from tenreckon.errors import BadCount, BadNumber
 
 
 class Number:
@@ -42,12 +42,38 @@ def need_number(thing):
     return thing
 
 
-def is_whole(thing):
+def need_numbers(things):
+    for thing in things:
+        need_number(thing)
+
+
+def some_of_kind(numbers, kind):
+    return any([number.kind == kind for number in numbers])
+
+
+def unlike_sign(one, other):
+    return 1 if one.sign != other.sign else 0
+
+
+def whole_at(number, power):
+    # Only for powers that are not above the number's own: there it is a whole number of times.
+    size = number.figures * 10 ** (number.power - power)
+    return -size if number.sign == 1 else size
+
+
+def is_between(thing, least, most):
     # Python counts True and False among its whole numbers; here they are none.
-    return isinstance(thing, int) and not isinstance(thing, bool)
+    if not isinstance(thing, int) or isinstance(thing, bool):
+        return False
+    return thing >= least and thing <= most
 
 
 def need_between(thing, least, most):
     # The error doesn't show the thing: Python refuses to write out very long whole numbers.
-    if not is_whole(thing) or thing < least or thing > most:
+    if not is_between(thing, least, most):
         raise BadNumber(f"not a whole number from {least} to {most}")
+
+
+def need_count(thing, most):
+    if not is_between(thing, -most, most):
+        raise BadCount(f"not a whole number from -{most} to {most}")

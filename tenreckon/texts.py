@@ -85,6 +85,10 @@ def shift_read(tail):
 
 
 def need_figures(digits):
-    # Not isdigit, which holds of signs beyond 0 to 9, too.
-    if digits == "" or digits.strip("0123456789") != "":
+    if not are_figures(digits):
         raise NoText("this is no number")
+
+
+def are_figures(digits):
+    # Not isdigit, which holds of signs beyond 0 to 9, too.
+    return digits != "" and digits.strip("0123456789") == ""
