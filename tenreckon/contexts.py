@@ -37,7 +37,7 @@ class Context:
 
     def raised(self, names):
         need_signals(names)
-        self.risen = in_order(self.risen + list(names))
+        self.risen = in_order(self.risen + names)
         for name in self.trapped:
             if name in names:
                 raise Trapped(name)

@@ -33,6 +33,10 @@ class Surd(typing.NamedTuple):
     square: int
 
 
+SOME_RULES = [Rules(3, way, -6, 9) for way in WAYS]
+SOME_RULES += [Rules(24, "up"), Rules(24, "half even"), Rules(1, "floor", 0, 0)]
+
+
 def ten(power):
     return Fraction(10) ** power
 

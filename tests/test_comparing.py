@@ -110,7 +110,8 @@ class LesserTest(ReckonCase):
 
     def test_of_two_alike_ones_the_first(self):
         for work in (lesser, greater):
-            for one, other in (("1", "1.0"), ("0", "-0"), ("-0.0", "0"), ("10", "1e1"), ("-2e1", "-20"), ("end", "end")):
+            for text in ("1 1.0", "0 -0", "-0.0 0", "10 1e1", "-2e1 -20", "end end"):
+                one, other = text.split()
                 for first, second in ((one, other), (other, one)):
                     self.check(Rules(3), work, [first, second], first)
 

@@ -141,6 +141,24 @@ def faults_of(source, methods=frozenset()):
     return faults
 
 
+def locals_of(tree):
+    nodes = list(ast.walk(tree))
+    inner = [node for top in tree.body if not isinstance(top, ast.Assign) for node in ast.walk(top)]
+    stored = {node.id for node in inner if isinstance(node, ast.Name) and isinstance(node.ctx, ast.Store)}
+    caught = {node.name for node in nodes if isinstance(node, ast.ExceptHandler) and node.name}
+    return stored | caught | {node.arg for node in nodes if isinstance(node, ast.arg)}
+
+
+def imported_by(tree):
+    rows = [node for node in tree.body if isinstance(node, ast.ImportFrom)]
+    return {(node.module.split(".")[1], alias.name) for node in rows for alias in node.names}
+
+
+def bound_at_top(tree):
+    named = [node.name for node in tree.body if isinstance(node, (ast.FunctionDef, ast.ClassDef))]
+    return set(named) | {node.targets[0].id for node in tree.body if isinstance(node, ast.Assign)}
+
+
 def drawn_from(tree):
     return {node.module.split(".")[1] for node in tree.body if isinstance(node, ast.ImportFrom)}
 
@@ -163,6 +181,19 @@ class FormTest(unittest.TestCase):
 
     def test_no_name_is_both_a_method_and_a_value(self):
         self.assertEqual(methods_of(self.trees.values()) & values_of(self.trees.values()), set())
+
+    def test_no_local_is_called_like_a_class_or_an_import(self):
+        for name, tree in self.trees.items():
+            classes = {node.name for node in tree.body if isinstance(node, ast.ClassDef)}
+            taken = classes | {imported for source, imported in imported_by(tree)}
+            self.assertEqual(locals_of(tree) & taken, set(), name)
+
+    def test_names_are_drawn_from_the_file_that_defines_them_and_are_used(self):
+        for name, tree in self.trees.items():
+            used = {node.id for node in ast.walk(tree) if isinstance(node, ast.Name)}
+            for source, imported in imported_by(tree):
+                self.assertIn(imported, bound_at_top(self.trees[source]), name)
+                self.assertIn(imported, used, name)
 
     def test_no_two_files_draw_from_one_another(self):
         left = {name: drawn_from(tree) for name, tree in self.trees.items()}

@@ -29,8 +29,8 @@ class SettledTest(ReckonCase):
         self.quick(rules, settled, [sign, exact, ideal], *wanted)
 
     def leads(self, rules):
-        low = (rules.lowest - 2, rules.lowest - 1, rules.lowest, rules.lowest + 1)
-        return sorted({*low, rules.least - 1, rules.least, rules.least + 1, 0, rules.most - 1, rules.most, rules.most + 1})
+        about = {edge + step for edge in (rules.lowest, rules.least, rules.most) for step in (-1, 0, 1)}
+        return sorted(about | {rules.lowest - 2, 0})
 
     def sweep(self, rules, signs=(0, 1)):
         for lead, whole in itertools.product(self.leads(rules), wholes(rules.room)):
@@ -73,7 +73,8 @@ class SettledTest(ReckonCase):
 
     def test_roots(self):
         for way, sign in itertools.product(WAYS, (0, 1)):
-            for square in (1, 2, 3, 4, 100, 10 ** 6, 99980001, 998001, 224, 225, 226, 12250000, 10 ** 120 - 1, 7 * 10 ** 90):
+            for square in (1, 2, 3, 4, 100, 10 ** 6, 99980001, 998001, 224, 225, 226, 12250000, 10 ** 120 - 1,
+                           7 * 10 ** 90):
                 for ideal in (-5, -1, 0, 1, 5):
                     self.one(Rules(3, way, -2, 5), sign, Surd(square), ideal)
 
@@ -103,8 +104,10 @@ class SettledTest(ReckonCase):
             self.each_way(rules, settled, [1, Ratio(top, 10), 0], below, "off cut")
 
     def test_one_figure_more_by_hand(self):
-        self.each_way(Rules(2), settled, [0, Ratio(999, 10), 0], "99 1.0e+2 99 1.0e+2 1.0e+2 1.0e+2 1.0e+2 99", "off cut")
-        self.each_way(Rules(1), settled, [1, Ratio(96, 1), 0], "-9e+1 -1e+2 -1e+2 -9e+1 -1e+2 -1e+2 -1e+2 -9e+1", "off cut")
+        self.each_way(Rules(2), settled, [0, Ratio(999, 10), 0],
+                      "99 1.0e+2 99 1.0e+2 1.0e+2 1.0e+2 1.0e+2 99", "off cut")
+        self.each_way(Rules(1), settled, [1, Ratio(96, 1), 0],
+                      "-9e+1 -1e+2 -1e+2 -9e+1 -1e+2 -1e+2 -1e+2 -9e+1", "off cut")
         self.each_way(Rules(1), settled, [0, Ratio(95, 1), 0], "9e+1 1e+2 9e+1 1e+2 1e+2 9e+1 1e+2 9e+1", "off cut")
 
     def test_nought_at_the_lowest_power_by_hand(self):
@@ -154,7 +157,8 @@ class SettledTest(ReckonCase):
 
 class NoughtTest(ReckonCase):
     def test_the_nearest_power(self):
-        for rules in (Rules(3, least=-2, most=5), Rules(1, least=0, most=0), Rules(24), Rules(1), Rules(24, "up", 0, 0)):
+        for rules in (Rules(3, least=-2, most=5), Rules(1, least=0, most=0), Rules(24), Rules(1),
+                      Rules(24, "up", 0, 0)):
             for sign in (0, 1):
                 for ideal in range(-100, 80):
                     self.check(rules, nought, [sign, ideal], *no_worth(rules, sign, ideal))
@@ -205,7 +209,8 @@ class RoundedTest(ReckonCase):
 
     def test_all_powers(self):
         for rules in (Rules(3, "half up", -2, 5), Rules(24, "floor"), Rules(1, "five up", 0, 0)):
-            for figures in (1, 10, 95, 99, 100, 10 ** 24 - 1, 10 ** 24, 10 ** 60 - 1, 5 * 10 ** 59, 123456789 * 10 ** 20):
+            for figures in (1, 10, 95, 99, 100, 10 ** 24 - 1, 10 ** 24, 10 ** 60 - 1, 5 * 10 ** 59,
+                            123456789 * 10 ** 20):
                 for power, sign in itertools.product(range(-200, 201, 3), (0, 1)):
                     wanted = settle(rules, sign, figures * ten(power), power)
                     self.quick(rules, rounded, [plain(sign, figures, power)], *wanted)

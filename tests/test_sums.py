@@ -1,7 +1,7 @@
 import itertools
 from unittest import main
 
-from reckoning import NOTHING, ReckonCase, Rules, all_kinds, settle_signed, worth
+from reckoning import NOTHING, SOME_RULES, ReckonCase, Rules, all_kinds, settle_signed, worth
 from strange import no_numbers
 from tenreckon.errors import BadNumber
 from tenreckon.numbers import Number, end, nothing, plain, told
@@ -13,7 +13,6 @@ SOME = [read(text) for text in """
 1 -1 1.0 9 -9.99 0.5 5e-1 12345 -0.00012345 1e10 99999 -1e-12 333333e-3 1e200 -1e-200 7e60 5e-61 100e3
 999999999999999999999999999999999999999999999999999999999999 -123456789012345678901234e-90 0 -0 0e-5 -0e7 0e200
 """.split()]
-RULES = [Rules(3, way, -6, 9) for way in WAYS] + [Rules(24, way) for way in ("up", "half even")] + [Rules(1, "floor", 0, 0)]
 
 
 def turned(number):
@@ -34,14 +33,14 @@ def wanted_sum(rules, one, other):
 
 class PlusTest(ReckonCase):
     def test_against_fractions(self):
-        for rules, one, other in itertools.product(RULES, SOME, SOME):
+        for rules, one, other in itertools.product(SOME_RULES, SOME, SOME):
             self.quick(rules, plus, [one, other], *wanted_sum(rules, one, other))
             self.quick(rules, minus, [one, other], *wanted_sum(rules, one, turned(other)))
 
     def test_trapped(self):
         for one, other in itertools.product(SOME[:12], SOME[:12]):
-            self.check(RULES[1], plus, [one, other], *wanted_sum(RULES[1], one, other))
-            self.check(RULES[1], minus, [one, other], *wanted_sum(RULES[1], one, turned(other)))
+            self.check(SOME_RULES[1], plus, [one, other], *wanted_sum(SOME_RULES[1], one, other))
+            self.check(SOME_RULES[1], minus, [one, other], *wanted_sum(SOME_RULES[1], one, turned(other)))
 
     def test_by_hand(self):
         rules = Rules(5, least=-9, most=9)
@@ -108,7 +107,7 @@ class PlusTest(ReckonCase):
 
 class TimesTest(ReckonCase):
     def test_against_fractions(self):
-        for rules, one, other in itertools.product(RULES, SOME, SOME):
+        for rules, one, other in itertools.product(SOME_RULES, SOME, SOME):
             sign = int(one.sign != other.sign)
             wanted = settle_signed(rules, sign, worth(one) * worth(other), one.power + other.power)
             self.quick(rules, times, [one, other], *wanted)
@@ -158,7 +157,7 @@ class FusedTest(ReckonCase):
 
     def test_against_fractions(self):
         few = SOME[:5] + SOME[-7:]
-        for rules, one, other, third in itertools.product(RULES, few, few, few):
+        for rules, one, other, third in itertools.product(SOME_RULES, few, few, few):
             self.quick(rules, fused, [one, other, third], *self.wanted(rules, one, other, third))
 
     def test_by_hand(self):
@@ -190,10 +189,10 @@ class FusedTest(ReckonCase):
         for way in WAYS:
             sign = int(way == "floor")
             rules = Rules(3, way)
-            self.check(rules, fused, [plain(0, 10 ** 30 - 1, 0), plain(0, 10 ** 30 + 1, 0), plain(1, 10 ** 60 - 1, 0)],
-                       ("plain", sign, 0, 0))
-            self.check(rules, fused, [plain(0, 10 ** 30 - 1, -9), plain(0, 10 ** 30 + 1, 2), plain(1, 10 ** 60 - 1, -7)],
-                       ("plain", sign, 0, -7))
+            for first, second in ((0, 0), (-9, 2)):
+                handed = [plain(0, 10 ** 30 - 1, first), plain(0, 10 ** 30 + 1, second),
+                          plain(1, 10 ** 60 - 1, first + second)]
+                self.check(rules, fused, handed, ("plain", sign, 0, first + second))
             self.check(rules, fused, [plain(0, 10 ** 59, -59), plain(1, 10 ** 59, -59), plain(0, 1, 0)],
                        ("plain", sign, 0, -62))
             self.check(rules, fused, [plain(0, 10 ** 59, 0), plain(0, 10 ** 59, -118), plain(1, 1, 0)],

@@ -74,8 +74,11 @@ class WaysTest(unittest.TestCase):
 
     def test_other_texts_are_refused(self):
         for name in NAMES:
-            for text in (name.upper(), name.title(), " " + name, name + " ", name + "\n", name[:-1], name[1:], name * 2):
+            for text in (name.upper(), name.title(), name[:-1], name[1:], name * 2):
                 self.refused(text)
+            for blank in (" ", "\n", "\t"):
+                self.refused(blank + name)
+                self.refused(name + blank)
             if " " in name:
                 for blank in ("", "  ", "_", "-", "\t"):
                     self.refused(name.replace(" ", blank))
