@@ -3,6 +3,7 @@
 from tenreckon.exact import Ratio
 from tenreckon.numbers import Number, end, need_numbers, nothing, some_of_kind, unlike_sign, whole_at
 from tenreckon.settling import nought, rounded, settled, split_to_end, void
+from tenreckon.wholes import ten_to
 
 
 def over(context, one, other):
@@ -25,7 +26,7 @@ def whole_over(context, one, other):
     if not has_plain_quotient(one, other):
         return odd_quotient(context, one, other, 0)
     whole = whole_part(one, other)
-    if whole >= 10 ** context.room:
+    if whole >= ten_to(context.room):
         return void(context)
     sign = unlike_sign(one, other)
     ideal = max(one.power - other.power, 0)
@@ -43,7 +44,7 @@ def rest_of(context, one, other):
     if other.kind == "end":
         return rounded(context, one)
     whole = whole_part(one, other)
-    if whole >= 10 ** context.room:
+    if whole >= ten_to(context.room):
         return void(context)
     low = min(one.power, other.power)
     left = abs(whole_at(one, low)) - whole * abs(whole_at(other, low))

@@ -1,5 +1,7 @@
 """Exact values above nought, looked at by any power of ten."""
 
+from tenreckon.wholes import ten_to
+
 
 class Exact:
     def first(self):
@@ -21,8 +23,8 @@ class Ratio(Exact):
 
     def at(self, power):
         shift = self.power - power
-        top = self.top * 10 ** max(shift, 0)
-        bottom = self.bottom * 10 ** max(-shift, 0)
+        top = self.top * ten_to(max(shift, 0))
+        bottom = self.bottom * ten_to(max(-shift, 0))
         whole = top // bottom
         return (whole, part_of(2 * (top - whole * bottom), bottom))
 
@@ -37,8 +39,8 @@ class Root(Exact):
 
     def at(self, power):
         shift = self.power - 2 * power
-        top = self.top * 10 ** max(shift, 0)
-        bottom = 10 ** max(-shift, 0)
+        top = self.top * ten_to(max(shift, 0))
+        bottom = ten_to(max(-shift, 0))
         whole = whole_root(top // bottom)
         if whole * whole * bottom == top:
             return (whole, 0)
@@ -58,8 +60,10 @@ def whole_lead(whole):
     # Not by the length of its text: Python refuses to write out whole numbers of some thousand figures.
     # The first guess is never too great, for the written fraction is below the logarithm of two.
     lead = (whole.bit_length() - 1) * 301029995 // 10 ** 9
-    while 10 ** (lead + 1) <= whole:
+    beyond = ten_to(lead + 1)
+    while beyond <= whole:
         lead += 1
+        beyond = beyond * 10
     return lead
 
 
@@ -67,7 +71,7 @@ def whole_root(whole):
     if whole == 0:
         return 0
     # Newton's steps come down to the root only from a guess that is not below it.
-    guess = 10 ** (whole_lead(whole) // 2 + 1)
+    guess = ten_to(whole_lead(whole) // 2 + 1)
     better = (guess + whole // guess) // 2
     while better < guess:
         guess = better

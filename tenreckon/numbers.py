@@ -1,6 +1,7 @@
 """Numbers: plain ones, ends and nothing-numbers."""
 
 from tenreckon.errors import BadCount, BadNumber
+from tenreckon.wholes import ten_to
 
 
 class Number:
@@ -57,7 +58,7 @@ def unlike_sign(one, other):
 
 def whole_at(number, power):
     # Only for powers that are not above the number's own: there it is a whole number of times.
-    size = number.figures * 10 ** (number.power - power)
+    size = number.figures * ten_to(number.power - power)
     return -size if number.sign == 1 else size
 
 

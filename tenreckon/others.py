@@ -5,6 +5,7 @@ from tenreckon.numbers import Number, end, lead_of, need_count, need_number, nee
 from tenreckon.settling import (
     finest_power, is_beyond, neighbour, nines, nought, rounded, settled, signals_of_lead, signals_of_rest, void,
     within_room)
+from tenreckon.wholes import ten_to
 
 BEYOND_ALL_POWERS = 1000
 
@@ -23,7 +24,7 @@ def same_power(context, one, other):
 def moved(context, one, power):
     pair = parts_at(one, power)
     number = Number("plain", one.sign, neighbour(context, one.sign, pair), power)
-    if number.figures >= 10 ** context.room or is_beyond(context, number):
+    if number.figures >= ten_to(context.room) or is_beyond(context, number):
         return void(context)
     if one.figures != 0:
         context.raised(signals_of_move(context, number, pair[1], power > one.power))
@@ -103,6 +104,6 @@ def nearer(context, sign, exact):
     if pair[1] != 0:
         return Number("plain", sign, pair[0], finest)
     # Below a power of ten there is room for a finer step.
-    if pair[0] == 10 ** (context.room - 1) and finest > context.lowest():
-        return Number("plain", sign, 10 ** context.room - 1, finest - 1)
+    if pair[0] == ten_to(context.room - 1) and finest > context.lowest():
+        return Number("plain", sign, ten_to(context.room) - 1, finest - 1)
     return Number("plain", sign, pair[0] - 1, finest)

@@ -3,6 +3,7 @@
 from tenreckon.exact import Ratio, Root
 from tenreckon.numbers import end, need_count, need_number, nothing, plain
 from tenreckon.settling import nought, settled, split_to_end, void
+from tenreckon.wholes import product_of
 
 
 def root(context, one):
@@ -29,9 +30,9 @@ def to_power(context, one, count):
     if one.figures == 0:
         return power_of_nought(context, sign, one.power, count)
     ideal = count * one.power
-    if count < 0:
-        return settled(context, sign, Ratio(1, one.figures ** -count, ideal), ideal)
-    return settled(context, sign, Ratio(one.figures ** count, 1, ideal), ideal)
+    product = product_of(one.figures, abs(count))
+    exact = Ratio(1, product, ideal) if count < 0 else Ratio(product, 1, ideal)
+    return settled(context, sign, exact, ideal)
 
 
 def power_of_end(context, sign, count):

@@ -2,6 +2,7 @@
 
 from tenreckon.exact import Ratio
 from tenreckon.numbers import Number, end, lead_of, need_number, nothing
+from tenreckon.wholes import ten_to
 
 
 def settled(context, sign, exact, ideal):
@@ -38,7 +39,7 @@ def neighbour(context, sign, pair):
 
 def within_room(context, sign, figures, power):
     # Going up makes one figure more only as a one with noughts behind it.
-    if figures == 10 ** context.room:
+    if figures == ten_to(context.room):
         return Number("plain", sign, figures // 10, power + 1)
     return Number("plain", sign, figures, power)
 
@@ -52,7 +53,7 @@ def burst(context, sign):
 
 
 def nines(context, sign):
-    return Number("plain", sign, 10 ** context.room - 1, context.most - context.room + 1)
+    return Number("plain", sign, ten_to(context.room) - 1, context.most - context.room + 1)
 
 
 def signals_of_rest(part, is_cut):

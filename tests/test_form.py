@@ -83,9 +83,15 @@ def faults_of_node(node):
         beside = [node.left] + node.comparators
         values = [part.value for part in beside if isinstance(part, ast.Constant)]
         return [] if any(value is None or isinstance(value, bool) for value in values) else ["L20"]
-    if isinstance(node, ast.BinOp) and isinstance(node.op, ast.Pow) and getattr(node.left, "value", 0) == 2:
-        return [] if isinstance(node.right, ast.Constant) and 0 <= node.right.value <= 64 else ["L27"]
-    return []
+    return faults_of_power(node)
+
+
+def faults_of_power(node):
+    if not isinstance(getattr(node, "op", None), ast.Pow):
+        return []
+    exponent = node.value if isinstance(node, ast.AugAssign) else node.right
+    written = isinstance(exponent, ast.Constant) and type(exponent.value) is int
+    return [] if written and exponent.value <= 64 else ["L27"]
 
 
 def faults_of_defs(node):
@@ -177,7 +183,8 @@ class FormTest(unittest.TestCase):
     def test_each_file_keeps_to_the_form(self):
         methods = methods_of(self.trees.values())
         for name, source in self.sources.items():
-            self.assertEqual(faults_of(source, methods), [], name)
+            with self.subTest(name):
+                self.assertEqual(faults_of(source, methods), [])
 
     def test_no_name_is_both_a_method_and_a_value(self):
         self.assertEqual(methods_of(self.trees.values()) & values_of(self.trees.values()), set())
@@ -216,7 +223,24 @@ class FormTest(unittest.TestCase):
             self.assertNotEqual(faults_of(source), [], source)
 
     def test_the_check_lets_pass_what_is_right(self):
-        self.assertEqual(faults_of("A = 1\n\n\ndef f(a):\n    return [b for b in a if b is None or b < 10 ** a]\n"), [])
+        self.assertEqual(faults_of("A = 1\n\n\ndef f(a):\n    return [b for b in a if b is None or b < A]\n"), [])
+
+    def test_the_check_sees_an_exponent_that_is_not_written(self):
+        for power in (
+                "2 ** n", "10 ** n", "n ** n", "n ** -n", "10 ** (n + 1)", "10 ** max(n, 0)", "10 ** n.room", "10 ** n - 1",
+                "-10 ** n", "5 * 10 ** n", "2 ** (1 + 1)", "10 ** -1", "10 ** 65", "10 ** 100", "2 ** True", "2 ** None",
+                "2 ** '2'", "2 ** 3 ** 2", "[b ** n for b in n]", "n[2 ** n]", "n.count(10 ** n)", "lambda b: b ** n"):
+            self.assertEqual(faults_of(f"def f(n):\n    return {power}\n"), ["L27 row 2"], power)
+        for power in ("n", "-1", "65", "n + 1"):
+            self.assertEqual(faults_of(f"def f(n):\n    n **= {power}\n"), ["L27 row 2"], power)
+        self.assertEqual(faults_of("B = 10\nA = 10 ** B\n"), ["L27 row 2"])
+        self.assertEqual(faults_of("def f(n, m=10 ** 65):\n    return n\n"), ["L27 row 1"])
+
+    def test_the_check_lets_pass_a_written_exponent(self):
+        for power in ("2 ** 0", "2 ** 1", "10 ** 60 - 1", "n ** 2", "n.room ** 63", "10 ** 64", "-2 ** 2", "(n + 1) ** 3"):
+            self.assertEqual(faults_of(f"def f(n):\n    return {power}\n"), [], power)
+        for power in ("0", "2", "64"):
+            self.assertEqual(faults_of(f"def f(n):\n    n **= {power}\n"), [], power)
 
 
 if __name__ == "__main__":
